@@ -6,6 +6,7 @@ import (
 	"testing"
 
 	"pinnace/api"
+	"pinnace/cells"
 	"pinnace/schema"
 	"pinnace/snap"
 	"pinnace/view"
@@ -809,6 +810,46 @@ func TestAgainstModel(t *testing.T) {
 			mustSee(t, w, r, model(w, func(x api.Ent) bool {
 				return len(x.Comps) > 0 && x.Comps[0].Kind == api.Pos && view.Sees(r, x.Comps[0].F[0], x.Comps[0].F[1])
 			})...)
+		}
+	}
+}
+
+// Who is in which cell, step by step, is who is there (P3): to take those that the cells show is to ask everybody.
+func TestDirectIsTakeOfVisible(t *testing.T) {
+	d := dice(3)
+	w, g := spawned(t, 60, 1), cells.New()
+	shown := 0
+	for range 600 {
+		for range d.throw(9) {
+			mustPush(t, w, throwOrder(&d, w.List()))
+		}
+		mustStep(t, w)
+		follow(t, w, g)
+		for range 8 {
+			r := throwRegion(&d)
+			want := snap.Direct(w, r)
+			shown += len(want)
+			mustForm(t, want, api.OK)
+			mustTake(t, w, view.Visible(g, r), want...)
+		}
+	}
+	if shown == 0 {
+		t.Fatal("nobody was ever seen")
+	}
+}
+
+// follow tells the cells what the last step has done.
+func follow(t *testing.T, w *world.World, g *cells.Grid) {
+	t.Helper()
+	for _, p := range w.Places() {
+		e := api.OK
+		if p.On {
+			e = g.Put(p.ID, p.X, p.Y)
+		} else {
+			e = g.Drop(p.ID)
+		}
+		if e != api.OK {
+			t.Fatalf("following %v: %d", p, e)
 		}
 	}
 }
